@@ -1,0 +1,1 @@
+"""Partnotes: notes that are numbered along a text of parts."""

@@ -1,0 +1,93 @@
+"""The interface at the end of DOC.md: what stands in which file, with which arguments."""
+
+import ast
+import unittest
+from pathlib import Path
+
+from partnotes.books import Book, Part
+from tests.samples import every_row
+
+PACKAGE = Path(__file__).resolve().parent.parent / "partnotes"
+
+ROW_METHODS = {"__eq__": ["other"], "__str__": []}
+
+# For each file: its functions with their parameters, and its classes with their methods.
+FUNCTIONS = {"errors": {}, "rows": {"read_row": ["text"]}, "books": {}}
+CLASSES = {
+    "errors": {
+        "NoteError": {}, "InvalidFault": {}, "InvalidCommand": {}, "Mismatch": {},
+        **{name: {"__init__": ["word"]} for name in (
+            "InvalidRow", "InvalidPart", "InvalidBook", "InvalidFilling", "InvalidMap")},
+        **{name: {"__init__": ["at"]} for name in ("InvalidText", "InvalidLeaves", "Refused", "NoPlace")},
+        "NoName": {"__init__": ["name"]},
+    },
+    "rows": {
+        "Row": {},
+        "Note": {"__init__": ["counter", "label"], **ROW_METHODS},
+        "Skip": {"__init__": ["counter", "by"], **ROW_METHODS},
+        "Set": {"__init__": ["counter", "to"], **ROW_METHODS},
+        "Keep": {"__init__": ["counter"], **ROW_METHODS},
+        "Back": {"__init__": ["counter"], **ROW_METHODS},
+        "Ref": {"__init__": ["label"], **ROW_METHODS},
+        "Put": {"__init__": ["part"], **ROW_METHODS},
+        "Open": {"__init__": ["name"], **ROW_METHODS},
+    },
+    "books": {
+        "Part": {"__init__": ["name", "rows"], **ROW_METHODS},
+        "Book": {
+            "__init__": ["counters", "parts"], "names": [], "tops": [], "unrolled": [], "part_of": ["name"],
+            "chain": ["name"], "without": ["name", "at"], "having": ["name", "at", "row"], "read": ["text"],
+            "__len__": [], **ROW_METHODS,
+        },
+    },
+}
+
+
+def tree_of(module):
+    return ast.parse((PACKAGE / f"{module}.py").read_text(encoding="utf-8"))
+
+
+def parameters(function):
+    return [one.arg for one in function.args.args]
+
+
+def functions_in(body):
+    return {one.name: one for one in body if isinstance(one, ast.FunctionDef)}
+
+
+class Interface(unittest.TestCase):
+    def test_functions(self):
+        for module, functions in FUNCTIONS.items():
+            defined = functions_in(tree_of(module).body)
+            for name, wanted in functions.items():
+                self.assertEqual(parameters(defined[name]), wanted, name)
+
+    def test_classes_and_methods(self):
+        for module, classes in CLASSES.items():
+            defined = {one.name: one for one in tree_of(module).body if isinstance(one, ast.ClassDef)}
+            for name, methods in classes.items():
+                own = functions_in(defined[name].body)
+                for method, wanted in methods.items():
+                    self.assertEqual(parameters(own[method])[1:], wanted, (name, method))
+
+    def test_properties_and_class_methods(self):
+        for name in ("names", "tops", "unrolled"):
+            self.assertIsInstance(vars(Book)[name], property)
+        self.assertIsInstance(vars(Book)["read"], classmethod)
+
+    def test_attributes_are_set_at_once(self):
+        for row in every_row():
+            wanted = CLASSES["rows"][type(row).__name__]["__init__"]
+            self.assertLessEqual({"word", *wanted}, set(vars(row)))
+        self.assertLessEqual({"name", "rows"}, set(vars(Part("a"))))
+        self.assertLessEqual({"counters", "parts"}, set(vars(Book([], [Part("a")]))))
+
+    def test_the_package_itself_has_only_a_docstring(self):
+        body = tree_of("__init__").body
+        self.assertEqual(len(body), 1)
+        self.assertIsInstance(body[0], ast.Expr)
+        self.assertIsInstance(body[0].value.value, str)
+
+
+if __name__ == "__main__":
+    unittest.main()
