@@ -1,6 +1,6 @@
 """Parts, and books of parts with their counters."""
 
-from partnotes.checks import is_index, is_name, is_sequence
+from partnotes.checks import is_index, is_name, is_pair, is_sequence
 from partnotes.errors import InvalidBook, InvalidPart, InvalidText, NoName, NoPlace
 from partnotes.rows import Row, read_row
 
@@ -24,11 +24,6 @@ class Part:
 
     def __eq__(self, other):
         return isinstance(other, Part) and str(self) == str(other)
-
-
-def is_pair(value):
-    """Tell whether any value is a tuple of two things."""
-    return isinstance(value, tuple) and len(value) == 2
 
 
 def are_counters(counters):

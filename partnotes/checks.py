@@ -1,4 +1,4 @@
-"""What an integer, a number, an index, a name and a sequence is."""
+"""What an integer, a number, an index, a name, a sequence and a pair is."""
 
 ROW_WORDS = ("note", "skip", "set", "keep", "back", "ref", "put", "open", "part")
 
@@ -31,3 +31,8 @@ def is_name(value):
 def is_sequence(value):
     """Tell whether any value is a list or a tuple."""
     return isinstance(value, (list, tuple))
+
+
+def is_pair(value):
+    """Tell whether any value is a tuple of two things."""
+    return isinstance(value, tuple) and len(value) == 2

@@ -2,6 +2,9 @@
 
 from partnotes.books import Book, Part
 from partnotes.errors import InvalidRow, Mismatch, NoName, NoPlace
+from partnotes.leaves import Leaves
+from partnotes.maps import Map
+from partnotes.numbers import Filling, play
 from partnotes.rows import Back, Keep, Note, Open, Put, Ref, Set, Skip
 
 NO_NAMES = ("note", "skip", "set", "keep", "back", "ref", "put", "open", "part")
@@ -34,8 +37,13 @@ def every_row():
 def every_object():
     """Objects of all classes of the package."""
     books = [Book([], [Part("a")]), Book([("f", "")], [Part("a", [Note("f")])])]
+    fillings = [Filling(), Filling([("x", [Skip("f", 2)])]), Filling([("f", [Set("f", 0)])])]
+    played = [play(book, Filling()) for book in books]
+    maps = [Map(), Map(("at", 5), ("now", 2))]
+    leaves = [Leaves(), Leaves([("x", "f", "on")])]
     errors = [InvalidRow("f"), Mismatch(), NoName("f"), NoPlace(0)]
-    return [*every_row(), Part("a"), Part("a", [Note("f")]), *books, *errors]
+    parts = [Part("a"), Part("a", [Note("f")])]
+    return [*every_row(), *parts, *books, *fillings, *played, *maps, *leaves, *errors]
 
 
 def no_strings():

@@ -5,6 +5,10 @@ import unittest
 from pathlib import Path
 
 from partnotes.books import Book, Part
+from partnotes.leaves import Leaves
+from partnotes.maps import Map
+from partnotes.numbers import Filling, play
+from partnotes.rows import Note
 from tests.samples import every_row
 
 PACKAGE = Path(__file__).resolve().parent.parent / "partnotes"
@@ -12,7 +16,11 @@ PACKAGE = Path(__file__).resolve().parent.parent / "partnotes"
 ROW_METHODS = {"__eq__": ["other"], "__str__": []}
 
 # For each file: its functions with their parameters, and its classes with their methods.
-FUNCTIONS = {"errors": {}, "rows": {"read_row": ["text"]}, "books": {}}
+FUNCTIONS = {
+    "errors": {}, "rows": {"read_row": ["text"]}, "books": {},
+    "numbers": {"play": ["book", "filling"], "faults_at": ["book", "filling"]},
+    "maps": {"map_of": ["book", "name", "counter"]}, "leaves": {},
+}
 CLASSES = {
     "errors": {
         "NoteError": {}, "InvalidFault": {}, "InvalidCommand": {}, "Mismatch": {},
@@ -38,6 +46,22 @@ CLASSES = {
             "__init__": ["counters", "parts"], "names": [], "tops": [], "unrolled": [], "part_of": ["name"],
             "chain": ["name"], "without": ["name", "at"], "having": ["name", "at", "row"], "read": ["text"],
             "__len__": [], **ROW_METHODS,
+        },
+    },
+    "numbers": {
+        "Filling": {"__init__": ["parts"], "names": [], "rows_for": ["name"], **ROW_METHODS},
+        "Played": {},
+    },
+    "maps": {
+        "Map": {
+            "__init__": ["now", "box"], "__call__": ["number", "kept"], "times": ["n"], "__rshift__": ["other"],
+            **ROW_METHODS,
+        },
+    },
+    "leaves": {
+        "Leaves": {
+            "__init__": ["items"], "pairs": [], "word_of": ["name", "counter"], "allow": ["book", "filling"],
+            "__len__": [], **{f"__{sign}__": ["other"] for sign in ("or", "and", "le", "ge")}, **ROW_METHODS,
         },
     },
 }
@@ -74,6 +98,8 @@ class Interface(unittest.TestCase):
         for name in ("names", "tops", "unrolled"):
             self.assertIsInstance(vars(Book)[name], property)
         self.assertIsInstance(vars(Book)["read"], classmethod)
+        self.assertIsInstance(vars(Filling)["names"], property)
+        self.assertIsInstance(vars(Leaves)["pairs"], property)
 
     def test_attributes_are_set_at_once(self):
         for row in every_row():
@@ -81,6 +107,13 @@ class Interface(unittest.TestCase):
             self.assertLessEqual({"word", *wanted}, set(vars(row)))
         self.assertLessEqual({"name", "rows"}, set(vars(Part("a"))))
         self.assertLessEqual({"counters", "parts"}, set(vars(Book([], [Part("a")]))))
+        self.assertLessEqual({"notes", "refs", "ends"}, set(vars(play(Book([], [Part("a")]), Filling()))))
+        self.assertLessEqual({"now", "box"}, set(vars(Map())))
+
+    def test_default_values(self):
+        for kind, wanted in ((Note, ("",)), (Part, ((),)), (Filling, ((),)), (Leaves, ((),)),
+                             (Map, (("now", 0), ("box", 0)))):
+            self.assertEqual(kind.__init__.__defaults__, wanted)
 
     def test_the_package_itself_has_only_a_docstring(self):
         body = tree_of("__init__").body

@@ -150,6 +150,23 @@ class Statements(unittest.TestCase):
             if isinstance(node.func, ast.Name) and node.func.id in takers:
                 self.assertEqual([one for one in node.args if isinstance(one, ast.GeneratorExp)], [], name)
 
+    def test_only_plain_things_are_sorted(self):
+        """Leaves have an order of their own, which is none for sorting."""
+        for name, node in nodes(ast.Call):
+            if isinstance(node.func, ast.Name) and node.func.id in ("sorted", "min", "max"):
+                plain = [one for one in node.args if isinstance(one, ast.Call) and one.func.id in ("set", "len", "str")]
+                literal = [one for one in node.args if isinstance(one, ast.Constant)]
+                self.assertTrue(plain or literal or node.keywords, (name, node.lineno))
+            if isinstance(node.func, ast.Attribute):
+                self.assertNotEqual(node.func.attr, "sort", name)
+
+    def test_what_only_reads_changes_nothing(self):
+        for name, node in nodes(ast.FunctionDef):
+            marks = [mark.id for mark in node.decorator_list if isinstance(mark, ast.Name)]
+            if "property" in marks or (node.name in DUNDERS and node.name not in ("__init__", "__call__")):
+                stored = [one for one in ast.walk(node) if isinstance(one, (ast.Attribute, ast.Subscript))]
+                self.assertEqual([one for one in stored if not isinstance(one.ctx, ast.Load)], [], (name, node.name))
+
 
 class Names(unittest.TestCase):
     def test_names_are_plain(self):
