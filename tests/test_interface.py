@@ -20,6 +20,16 @@ FUNCTIONS = {
     "errors": {}, "rows": {"read_row": ["text"]}, "books": {},
     "numbers": {"play": ["book", "filling"], "faults_at": ["book", "filling"]},
     "maps": {"map_of": ["book", "name", "counter"]}, "leaves": {},
+    "deciding": {
+        "happens": ["book", "leaves", "fault"], "example": ["book", "leaves", "fault"], "faults": ["book", "leaves"],
+        "twins": ["book", "leaves"],
+    },
+    "papers": {
+        "cases": ["book", "leaves"], "paper": ["book", "leaves"], "paper_holds": ["book", "leaves", "value"],
+    },
+    "comparing": {
+        "alike": ["p", "q", "leaves"], "parting": ["p", "q", "leaves"], "needless": ["book", "leaves"],
+    },
 }
 CLASSES = {
     "errors": {

@@ -64,6 +64,8 @@ def bound(tree):
             names.append(node.id)
         elif isinstance(node, ast.alias):
             names.append(node.asname or node.name)
+        elif isinstance(node, ast.ExceptHandler) and node.name:
+            names.append(node.name)
     return names
 
 
@@ -78,6 +80,14 @@ def methods_and_attributes():
         if isinstance(node.ctx, ast.Store):
             attributes.add(node.attr)
     return methods, properties, attributes
+
+
+def is_plain(node):
+    """Whether something is plainly a number, a string, a set, or a list of these."""
+    if isinstance(node, ast.ListComp):
+        return is_plain(node.elt)
+    called = isinstance(node, ast.Call) and isinstance(node.func, ast.Name)
+    return isinstance(node, ast.Constant) or called and node.func.id in ("set", "len", "str", "int")
 
 
 class Files(unittest.TestCase):
@@ -154,11 +164,35 @@ class Statements(unittest.TestCase):
         """Leaves have an order of their own, which is none for sorting."""
         for name, node in nodes(ast.Call):
             if isinstance(node.func, ast.Name) and node.func.id in ("sorted", "min", "max"):
-                plain = [one for one in node.args if isinstance(one, ast.Call) and one.func.id in ("set", "len", "str")]
-                literal = [one for one in node.args if isinstance(one, ast.Constant)]
-                self.assertTrue(plain or literal or node.keywords, (name, node.lineno))
+                self.assertTrue(node.keywords or any(is_plain(one) for one in node.args), (name, node.lineno))
             if isinstance(node.func, ast.Attribute):
                 self.assertNotEqual(node.func.attr, "sort", name)
+
+    def test_what_is_iterated_at_once(self):
+        once = ("zip", "enumerate", "reversed", "range", "items", "keys", "values")
+        takers = ("list", "tuple", "dict", "sorted", "sum", "enumerate", "zip")
+        for name, tree in trees():
+            allowed = []
+            for node in ast.walk(tree):
+                if isinstance(node, (ast.For, ast.comprehension)):
+                    allowed.append(node.iter)
+                if isinstance(node, ast.Call) and isinstance(node.func, ast.Name) and node.func.id in takers:
+                    allowed += node.args[:1]
+            for node in [node for node in ast.walk(tree) if isinstance(node, ast.Call)]:
+                called = node.func.id if isinstance(node.func, ast.Name) else getattr(node.func, "attr", "")
+                self.assertTrue(called not in once or node in allowed, (name, node.lineno))
+
+    def test_dicts_of_a_module_are_only_read(self):
+        for name, tree in trees():
+            tables = [node.targets[0].id for node in tree.body
+                      if isinstance(node, ast.Assign) and isinstance(node.value, (ast.Dict, ast.List))]
+            read = [node.value for node in ast.walk(tree) if isinstance(node, ast.Subscript)]
+            for node in ast.walk(tree):
+                if isinstance(node, ast.Compare):
+                    read += node.comparators
+            for node in ast.walk(tree):
+                if isinstance(node, ast.Name) and node.id in tables and isinstance(node.ctx, ast.Load):
+                    self.assertIn(node, read, (name, node.lineno))
 
     def test_what_only_reads_changes_nothing(self):
         for name, node in nodes(ast.FunctionDef):
