@@ -7,11 +7,9 @@ from partnotes.leaves import Leaves
 from partnotes.numbers import Filling, play
 from partnotes.rows import Set, Skip
 from tests import model
+from tests.heads import ONE, SIDE, THREE, TWO
 
-FAMILIES = (
-    ["counter c"], ["counter c", "counter f under c"], ["counter c", "counter f"],
-    ["counter c", "counter f under c", "counter r under f"], ["counter c", "counter f under c", "counter r under c"],
-)
+FAMILIES = (ONE, TWO, ["counter c", "counter f"], THREE, SIDE)
 WORDS = ("", "on", "any")
 
 

@@ -1,8 +1,10 @@
 """Values that tests try in place of any argument."""
 
 from partnotes.books import Book, Part
+from partnotes.desk import Desk
 from partnotes.errors import InvalidRow, Mismatch, NoName, NoPlace
 from partnotes.leaves import Leaves
+from partnotes.live import Live
 from partnotes.maps import Map
 from partnotes.numbers import Filling, play
 from partnotes.rows import Back, Keep, Note, Open, Put, Ref, Set, Skip
@@ -43,7 +45,8 @@ def every_object():
     leaves = [Leaves(), Leaves([("x", "f", "on")])]
     errors = [InvalidRow("f"), Mismatch(), NoName("f"), NoPlace(0)]
     parts = [Part("a"), Part("a", [Note("f")])]
-    return [*every_row(), *parts, *books, *fillings, *played, *maps, *leaves, *errors]
+    lives = [Live(book, leaves[0]) for book in books]
+    return [*every_row(), *parts, *books, *fillings, *played, *maps, *leaves, *lives, Desk(), *errors]
 
 
 def no_strings():

@@ -10,16 +10,7 @@ from partnotes.leaves import Leaves
 from partnotes.numbers import Filling
 from partnotes.rows import Open
 from tests import drawn, model
-
-ONE = ["counter c"]
-TWO = ["counter c", "counter f under c"]
-SIDE = ["counter c", "counter f under c", "counter r under c"]
-ON = ("x", "c", "on")
-ANY = ("x", "c", "any")
-
-
-def book_of(rows, head=ONE):
-    return Book.read("\n".join([*head, "part text", *rows]))
+from tests.heads import ANY, ON, ONE, SIDE, TWO, book_of
 
 
 class Compared(unittest.TestCase):

@@ -10,20 +10,10 @@ from partnotes.leaves import Leaves
 from partnotes.numbers import FAULTS, Filling, faults_at, play
 from partnotes.rows import Note, Open
 from tests import drawn, numbering
+from tests.heads import LINES, ONE, THREE, TWO, book_of
 from tests.samples import any_values
 
-ONE = ["counter c"]
-TWO = ["counter c", "counter f under c"]
-THREE = ["counter c", "counter f under c", "counter r under f"]
-LINES = [
-    "counter c", "counter f under c", "part pic", "note f", "note f", "part book", "note c", "put pic", "keep f",
-    "open x", "back f", "put pic",
-]
 EVERY = tuple((name, counter, "any") for name in ("x", "y") for counter in ("c", "f", "r"))
-
-
-def book_of(rows, head=ONE):
-    return Book.read("\n".join([*head, "part text", *rows]))
 
 
 class Decided(unittest.TestCase):

@@ -9,9 +9,8 @@ from partnotes.deciding import twins
 from partnotes.equations import Solver, apart, difference, less, same
 from partnotes.leaves import Leaves
 from partnotes.traces import forms_of
+from tests.heads import ONE, TWO
 
-ONE = ["counter c"]
-TWO = ["counter c", "counter f under c"]
 MOVES = ("still", "on", "at", "nil")
 
 

@@ -8,13 +8,7 @@ from partnotes.errors import InvalidFilling
 from partnotes.numbers import Filling, faults_at
 from partnotes.rows import Open, Skip
 from tests import numbering, texts
-
-ONE = ["counter c"]
-TWO = ["counter c", "counter f under c"]
-LINES = [
-    "counter c", "counter f under c", "part pic", "note f", "note f", "part book", "note c", "put pic", "keep f",
-    "open x", "back f", "put pic",
-]
+from tests.heads import LINES, ONE, TWO
 
 
 class Faults(unittest.TestCase):

@@ -5,7 +5,9 @@ import unittest
 from pathlib import Path
 
 from partnotes.books import Book, Part
+from partnotes.desk import Desk
 from partnotes.leaves import Leaves
+from partnotes.live import Live
 from partnotes.maps import Map
 from partnotes.numbers import Filling, play
 from partnotes.rows import Note
@@ -30,6 +32,12 @@ FUNCTIONS = {
     "comparing": {
         "alike": ["p", "q", "leaves"], "parting": ["p", "q", "leaves"], "needless": ["book", "leaves"],
     },
+    "origins": {
+        "origins": ["book", "leaves", "counter", "prints"], "telling": ["book", "leaves", "at", "prints"],
+        "spread": ["book", "leaves", "at"],
+    },
+    "mending": {"widest": ["book", "leaves", "wanted"], "starts": ["book", "leaves", "counter", "wanted"]},
+    "live": {}, "desk": {},
 }
 CLASSES = {
     "errors": {
@@ -74,6 +82,13 @@ CLASSES = {
             "__len__": [], **{f"__{sign}__": ["other"] for sign in ("or", "and", "le", "ge")}, **ROW_METHODS,
         },
     },
+    "live": {
+        "Live": {
+            "__init__": ["book", "leaves"], "book": [], "leaves": [], "insert": ["at", "row"], "remove": ["at"],
+            "several": ["rows"], "use": ["leaves"], "prints": ["at"], "undo": [], "within": ["work"], "__len__": [],
+        },
+    },
+    "desk": {"Desk": {"__init__": [], "say": ["command"]}},
 }
 
 
@@ -110,6 +125,8 @@ class Interface(unittest.TestCase):
         self.assertIsInstance(vars(Book)["read"], classmethod)
         self.assertIsInstance(vars(Filling)["names"], property)
         self.assertIsInstance(vars(Leaves)["pairs"], property)
+        for name in ("book", "leaves"):
+            self.assertIsInstance(vars(Live)[name], property)
 
     def test_attributes_are_set_at_once(self):
         for row in every_row():
@@ -119,6 +136,7 @@ class Interface(unittest.TestCase):
         self.assertLessEqual({"counters", "parts"}, set(vars(Book([], [Part("a")]))))
         self.assertLessEqual({"notes", "refs", "ends"}, set(vars(play(Book([], [Part("a")]), Filling()))))
         self.assertLessEqual({"now", "box"}, set(vars(Map())))
+        self.assertLessEqual({"live"}, set(vars(Desk())))
 
     def test_default_values(self):
         for kind, wanted in ((Note, ("",)), (Part, ((),)), (Filling, ((),)), (Leaves, ((),)),

@@ -7,19 +7,20 @@ import unittest
 from partnotes.books import Book
 from partnotes.comparing import alike, needless
 from partnotes.deciding import faults, twins
+from partnotes.desk import Desk
 from partnotes.leaves import Leaves
-from partnotes.numbers import Filling, play
+from partnotes.mending import starts, widest
+from partnotes.numbers import FAULTS, Filling, play
+from partnotes.origins import origins, spread, telling
 from partnotes.papers import cases, paper, paper_holds
+from tests.heads import APART, SIDE, THREE
 
 # A slow machine is to pass, too; a call that tries one filling after another is not.
 SECONDS = 20
-HEADS = (
-    ["counter c", "counter f under c", "counter r under f"], ["counter c", "counter f", "counter r"],
-    ["counter c", "counter f under c", "counter r under c"],
-)
+HEADS = (THREE, APART, SIDE)
 
 
-def book_of(head, part, text):
+def book_with(head, part, text):
     return Book.read("\n".join([*head, "part many", *part, "part text", *text]))
 
 
@@ -29,10 +30,10 @@ def large_books():
     for head in HEADS:
         for name in "cfr":
             note = f"note {name}"
-            yield book_of(head, ["open x", "open y"] * 5, [*[note] * 8, "put many", *[note] * 8, "put many", "set c 40"])
-            yield book_of(head, [note, *keep, "open x", "open y", "open x", *back], ["put many"] * 16)
-            yield book_of(head, [*["open x"] * 6, note, *["open y"] * 4], ["put many"] * 16 + ["skip r 40"] * 4)
-            yield book_of(head, [*[note] * 16], ["put many", *["open x", "set f 40", "open y"] * 6])
+            yield book_with(head, ["open x", "open y"] * 5, [*[note] * 8, "put many", *[note] * 8, "put many", "set c 40"])
+            yield book_with(head, [note, *keep, "open x", "open y", "open x", *back], ["put many"] * 16)
+            yield book_with(head, [*["open x"] * 6, note, *["open y"] * 4], ["put many"] * 16 + ["skip r 40"] * 4)
+            yield book_with(head, [*[note] * 16], ["put many", *["open x", "set f 40", "open y"] * 6])
 
 
 def large_leaves():
@@ -68,6 +69,29 @@ class Limits(unittest.TestCase):
             self.assertIs(self.quick(alike, book, book, leaves), True)
             self.quick(needless, book, leaves)
 
+    def test_origins(self):
+        for book, leaves in self.every():
+            counter = [row.counter for row in book.unrolled if row.word == "note"][-1]
+            self.assertEqual(len(self.quick(spread, book, leaves, 15)), len(book.chain(counter)))
+            for prints in ((997,) * len(book.chain(counter)), (1,) * len(book.chain(counter))):
+                found = self.quick(origins, book, leaves, counter, prints)
+                self.assertIs(self.quick(telling, book, leaves, 15, prints) is not None, 15 in found)
+
+    def test_mending(self):
+        for book, leaves in self.every():
+            for wanted in (FAULTS, ["twin"], ["fall"]):
+                self.quick(widest, book, leaves, wanted)
+                self.quick(starts, book, leaves, "c", wanted)
+                self.quick(starts, book, leaves, "r", wanted)
+
+    def test_desks(self):
+        desk = Desk()
+        desk.say("book " + str(next(large_books())).replace("\n", " ; "))
+        for step in range(40):
+            self.quick(desk.say, f"leave {'xy'[step % 2]} {'cfr'[step % 3]} any")
+            self.quick(desk.say, "faults")
+        self.assertEqual([desk.say("undo") for step in range(41)], ["undone"] * 40 + ["nothing"])
+
     def test_papers(self):
         shapes = {True: 0, False: 0}
         for book, leaves in self.every():
@@ -78,7 +102,7 @@ class Limits(unittest.TestCase):
         self.assertGreater(min(shapes.values()), 5)
 
     def test_a_paper_in_any_order(self):
-        book = book_of(HEADS[1], ["note c"] * 16, ["put many", "open x", "open y"])
+        book = book_with(HEADS[1], ["note c"] * 16, ["put many", "open x", "open y"])
         leaves = next(large_leaves())
         self.assertEqual(len(self.quick(cases, book, leaves)), 4096)
         told = list(self.quick(paper, book, leaves))

@@ -10,20 +10,10 @@ from partnotes.leaves import Leaves
 from partnotes.papers import cases, paper, paper_holds
 from partnotes.rows import Note, Open
 from tests import drawn
+from tests.heads import LINES, ONE, THREE, TWO, book_of
 from tests.samples import any_values
 
-ONE = ["counter c"]
-TWO = ["counter c", "counter f under c"]
-THREE = ["counter c", "counter f under c", "counter r under f"]
-LINES = [
-    "counter c", "counter f under c", "part pic", "note f", "note f", "part book", "note c", "put pic", "keep f",
-    "open x", "back f", "put pic",
-]
 WORDS = ("still", "on", "at", "both", "new")
-
-
-def book_of(rows, head=ONE):
-    return Book.read("\n".join([*head, "part text", *rows]))
 
 
 def lists(value):
