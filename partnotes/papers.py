@@ -1,6 +1,6 @@
 """Papers: tuples of entries which show that no two notes print the same."""
 
-from partnotes.checks import is_index, is_integer, is_pair
+from partnotes.checks import is_index, is_pair
 from partnotes.courses import MOVES, briefly, choices, courses, plainly
 from partnotes.equations import Solver, difference
 from partnotes.fields import forms_by_counter, frames_by_counter
@@ -51,7 +51,7 @@ class Proof:
         return self.known[key]
 
     def shows(self, moves, early, late, place):
-        """Tell whether integers are two notes of one counter and a place where they are never the same."""
+        """Tell whether any values are two notes of one counter and a place where they are never the same."""
         if not is_index(late, len(self.notes)) or not is_index(early, late):
             return False
         chain = self.chains[self.notes[late]]
@@ -110,10 +110,8 @@ def is_words(value):
 
 
 def is_entry(value):
-    """Tell whether any value is a tuple of two integers, a tuple and an integer."""
-    if not isinstance(value, tuple) or len(value) != 4 or not isinstance(value[2], tuple):
-        return False
-    return is_integer(value[0]) and is_integer(value[1]) and is_integer(value[3])
+    """Tell whether any value is a tuple of four things, with a tuple where the case stands."""
+    return isinstance(value, tuple) and len(value) == 4 and isinstance(value[2], tuple)
 
 
 def paper_holds(book, leaves, value):

@@ -63,7 +63,7 @@ class Solutions(unittest.TestCase):
                 for form in ((number, one, -other), (number, -one, other)):
                     found = same(form)
                     self.assertIs(found is not None, number % divisor == 0)
-                    self.assertTrue(found is None or worth(form, found) == 0)
+                    self.assertTrue(found is None or worth(form, found) == 0 <= min(found))
 
     def test_factors_of_one_sign(self):
         for one, other in itertools.product(range(1, 9), repeat=2):

@@ -30,7 +30,8 @@ def large_books():
     for head in HEADS:
         for name in "cfr":
             note = f"note {name}"
-            yield book_with(head, ["open x", "open y"] * 5, [*[note] * 8, "put many", *[note] * 8, "put many", "set c 40"])
+            eight = [*[note] * 8, "put many"]
+            yield book_with(head, ["open x", "open y"] * 5, [*eight, *eight, "set c 40"])
             yield book_with(head, [note, *keep, "open x", "open y", "open x", *back], ["put many"] * 16)
             yield book_with(head, [*["open x"] * 6, note, *["open y"] * 4], ["put many"] * 16 + ["skip r 40"] * 4)
             yield book_with(head, [*[note] * 16], ["put many", *["open x", "set f 40", "open y"] * 6])

@@ -227,8 +227,9 @@ class Prints(unittest.TestCase):
 class Undoing(unittest.TestCase):
     def test_until_nothing_is_left(self):
         live = live_of()
-        steps = [lambda: live.insert(0, Note("c")), lambda: live.remove(0), lambda: live.several([Note("f"), Open("y")]),
-                 lambda: live.use(Leaves()), lambda: live.several([]), lambda: live.insert(3, Skip("c", 3))]
+        steps = [lambda: live.insert(0, Note("c")), lambda: live.remove(0)]
+        steps += [lambda: live.several([Note("f"), Open("y")]), lambda: live.use(Leaves()), lambda: live.several([])]
+        steps += [lambda: live.insert(3, Skip("c", 3))]
         seen = [state(live)]
         for step in steps:
             step()
@@ -279,9 +280,10 @@ class Undoing(unittest.TestCase):
             for step in range(20):
                 row = read_row(drawn.row(dice, ["c"], "xy", ["note", "open", "skip", "set", "keep", "ref"]))
                 at = dice.randint(0, len(rows_of(live)))
+                changes = [lambda: live.insert(at, row), lambda: live.remove(at), lambda: live.several([row, row])]
+                changes += [lambda: live.use(drawn.any_leaves(dice, book))]
                 try:
-                    dice.choice([lambda: live.insert(at, row), lambda: live.remove(at), lambda: live.several([row, row]),
-                                 lambda: live.use(drawn.any_leaves(dice, book))])()
+                    dice.choice(changes)()
                     seen.append(state(live))
                 except (InvalidBook, NoPlace, Refused):
                     self.assertEqual(state(live), seen[-1])

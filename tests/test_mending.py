@@ -79,6 +79,16 @@ class Widest(unittest.TestCase):
         for part in (["x c on", "y f on"], ["y f any"]):
             self.check(book, [tuple(text.split()) for text in part], ["twin"], ["; ".join(part)])
 
+    def test_a_counter_that_starts_anew_and_goes_on(self):
+        """A twin comes only if the chapter goes on to 2, and the figure, started anew, to 1."""
+        rows = ["set {0} 2", "set {1} 1", "note {1}", "set {0} 1", "set {1} 3", "open x", "note {1}"]
+        for upper, lower, texts in (("c", "f", ["x c on", "x f any"]), ("z", "a", ["x a any", "x z on"])):
+            head = [f"counter {upper}", f"counter {lower} under {upper}"]
+            book = book_of([row.format(upper, lower) for row in rows], head)
+            self.check(book, [("x", upper, "on"), ("x", lower, "any")], ["twin"], texts)
+            less = [text.replace("any", "on") for text in texts]
+            self.check(book, [("x", upper, "on"), ("x", lower, "on")], ["twin"], less)
+
     def test_three_greatest_leaves(self):
         rows = ["set c 1", "note f", "set c 0", "open x", "set f 5", "open y", "note f"]
         leaves = [ANY, ("y", "f", "any"), ("y", "c", "on")]
@@ -206,7 +216,8 @@ class Starts(unittest.TestCase):
         self.check(rows, [], "c", ["gap", "twin"], ((1,),), ONE)
 
     def test_a_part_that_is_put(self):
-        book = Book.read("counter c\ncounter f under c\npart a\nnote f\npart text\nput a\nset c 2\nput a\nset c 3\nput a")
+        rows = ["put a", "set c 2", "put a", "set c 3", "put a"]
+        book = Book.read("\n".join([*TWO, "part a", "note f", "part text", *rows]))
         self.assertEqual(starts(book, Leaves(), "f", ["gap"]), ((1, 3), (1, 4), (2, 3), (2, 4)))
         self.assertEqual(starts(book, Leaves(), "f", ["twin"]), ((),))
 

@@ -10,7 +10,7 @@ from partnotes.leaves import Leaves
 from partnotes.papers import cases, paper, paper_holds
 from partnotes.rows import Note, Open
 from tests import drawn
-from tests.heads import LINES, ONE, THREE, TWO, book_of
+from tests.heads import APART, LINES, ONE, SIDE, THREE, TWO, book_of
 from tests.samples import any_values
 
 WORDS = ("still", "on", "at", "both", "new")
@@ -64,8 +64,7 @@ class Cases(unittest.TestCase):
         self.assertEqual(found, wanted + [("still", *two) for two in lower])
 
     def test_cases_are_those_that_the_document_tells(self):
-        heads = [ONE, TWO, THREE, ["counter c", "counter f", "counter r"],
-                 ["counter c", "counter f under c", "counter r under c"], ["counter c", "counter r", "counter f under c"]]
+        heads = [ONE, TWO, THREE, APART, SIDE, ["counter c", "counter r", "counter f under c"]]
         dice = random.Random(18)
         for head in heads:
             book = book_of(["open x"], head)
@@ -88,7 +87,7 @@ class Cases(unittest.TestCase):
         found = cases(book, every)
         self.assertEqual(len(found), 22 * 22)
         self.assertEqual(list(found), sorted(set(found)))
-        self.assertEqual(len(cases(book_of(["open x", "open y"], ["counter c", "counter f", "counter r"]), every)), 4096)
+        self.assertEqual(len(cases(book_of(["open x", "open y"], APART), every)), 4096)
 
     def test_no_names_and_no_counters(self):
         self.assertEqual(cases(book_of(["note c"]), Leaves([("x", "c", "any")])), ((),))
@@ -264,6 +263,14 @@ class Holding(unittest.TestCase):
         case, place = self.told[0][2:]
         for i, j in ((0, 1), (0, 4), (1, 5), (4, 5), (5, 6), (1, 10 ** 9), (-1, 1), (-4, -3), (-2, 4), (1, -1)):
             self.assertFalse(self.holds((*self.told, (i, j, case, place))), (i, j))
+
+    def test_notes_of_two_counters_that_never_print_the_same(self):
+        book = book_of(["note c", "note f", "note c", "note f"], TWO)
+        told = paper(book, Leaves())
+        self.assertEqual(set(told), {(0, 2, (), 0), (1, 3, (), 0)})
+        for i, j in ((1, 2), (0, 3)):
+            for place in (0, 1):
+                self.assertIs(paper_holds(book, Leaves(), (*told, (i, j, (), place))), False)
 
     def test_notes_that_do_not_stand_in_order(self):
         for i, j, case, place in self.told:
