@@ -23,7 +23,7 @@ def note_parting(p, q, leaves):
     for counter, field in study.fields.items():
         for at in study.numbers[counter]:
             for place in range(len(field.forms)):
-                found = field.example([(place, "apart", at, many + at, 0)])
+                found = field.filling_by([(place, "apart", at, many + at, 0)])
                 if found is not None:
                     return found
     return None
@@ -32,7 +32,7 @@ def note_parting(p, q, leaves):
 def numbers_parting(field, left, one, right, other):
     """Return a filling that parts the number at the left place in one note and that at the right one in another."""
     if left == right:
-        return field.example([(left, "apart", one, other, 0)])
+        return field.filling_by([(left, "apart", one, other, 0)])
     for ours, our_mask in field.frame.masks[left].items():
         for theirs, their_mask in field.frame.masks[right].items():
             form = field.forms[left][ours][one]
@@ -42,7 +42,7 @@ def numbers_parting(field, left, one, right, other):
             if our_mask & their_mask != 0 and unknowns is not None:
                 many = len(ours)
                 number = first_in(our_mask & their_mask)
-                return field.filling(number, {left: unknowns[:many], right: unknowns[many:]})
+                return field.filling_in(number, {left: unknowns[:many], right: unknowns[many:]})
     return None
 
 

@@ -129,8 +129,8 @@ class Field:
                 mask = mask & self.mask_of(demand)
         return mask
 
-    def filling(self, number, unknowns):
-        """Return the filling for the case with a number, with the tuples of unknown numbers by places, else 0."""
+    def filling_in(self, number, unknowns):
+        """Return the filling for the case with a number, with tuples of unknown numbers by places, else 0."""
         parts = []
         for at, name in enumerate(self.frame.opens):
             rows = []
@@ -140,7 +140,7 @@ class Field:
             parts.append((name, rows))
         return Filling(parts)
 
-    def example(self, way):
+    def filling_by(self, way):
         """Return a filling with which all demands of a way hold, or None."""
         mask = self.common(way)
         if mask == 0:
@@ -151,4 +151,4 @@ class Field:
             place = demand[0]
             moves = tuple([MOVES[course[place]] for course in self.frame.cases[number]])
             unknowns[place] = self.solver.solve(demand[1], self.form_in(demand, moves))
-        return self.filling(number, unknowns)
+        return self.filling_in(number, unknowns)

@@ -16,7 +16,7 @@ def example_printing(field, at, prints):
     """Return some filling with which a note of a field prints any value, or None."""
     if not can_be_prints(prints, len(field.forms)):
         return None
-    return field.example([(place, "same", NO_NOTE, at, number) for place, number in enumerate(prints)])
+    return field.filling_by([(place, "same", NO_NOTE, at, number) for place, number in enumerate(prints)])
 
 
 def field_of_note(book, leaves, at):

@@ -39,7 +39,7 @@ class Study:
         """Return a filling with which a fault is there at the notes of some counters, or None."""
         for counter in counters:
             for way in self.ways(fault, counter):
-                found = self.fields[counter].example(way)
+                found = self.fields[counter].filling_by(way)
                 if found is not None:
                     return found
         return None
